@@ -158,6 +158,14 @@ func forget() {
 	laid = rows{}
 }
 
+// row is what the chapter tells, as a row.
+func (w told) row() row { return row{w.acts, w.next} }
+
+// mayBe are the states and requests that there are, with mine and without.
+func mayBe() []asked {
+	return slices.DeleteFunc(every(), func(at asked) bool { return !at.s.May() || !at.k.May() })
+}
+
 // together runs f as often as there are workers, all at once.
 func together(workers int, f func(worker int)) {
 	var all sync.WaitGroup
@@ -216,6 +224,111 @@ func TestAllReadOneRowFirst(t *testing.T) { // P13.2: nobody reads a chart that 
 		})
 		if slices.Max(wrong) > 0 {
 			t.Fatalf("round %d: wrong answers of each reader: %v", round, wrong)
+		}
+	}
+}
+
+func TestTell(t *testing.T) { // P13.1: the function that tells a row tells the chapter's, in memory of its own
+	want := read(t)
+	for _, at := range mayBe() {
+		first, second := tell(at.s, at.k, at.mine), tell(at.s, at.k, at.mine)
+		scribble(first.acts)
+		if w := wanted(want, at).row(); !second.is(w) {
+			t.Errorf("tell(%v, %v, %v) = %+v, want %+v", at.s, at.k, at.mine, second, w)
+		}
+	}
+}
+
+func TestIs(t *testing.T) { // P13.1: rows are told apart by their acts, the order of these, and the next state
+	r := row{[]Act{Guard, SayNone}, Pending}
+	if !r.is(row{[]Act{Guard, SayNone}, Pending}) || !(row{}).is(row{acts: []Act{}}) {
+		t.Error("one row isn't the same as itself")
+	}
+	for _, other := range []row{
+		{[]Act{Guard, SayNone}, Idle}, {[]Act{SayNone, Guard}, Pending}, {[]Act{Guard}, Pending}, {[]Act{Guard, Rest}, Pending},
+		{[]Act{Guard, SayNone, Rest}, Pending}, {nil, Pending}, {},
+	} {
+		if r.is(other) || other.is(r) {
+			t.Errorf("%+v is taken for %+v", other, r)
+		}
+	}
+}
+
+func TestLaidIsTold(t *testing.T) { // P13.2: the chart as it is laid holds what the function tells, of every state, request and side
+	want := read(t)
+	forget()
+	for _, at := range mayBe() {
+		check(t, want, at)
+		stands := laid[at.s][at.k][side(at.mine)]
+		if !stands.is(tell(at.s, at.k, at.mine)) || !stands.is(wanted(want, at).row()) {
+			t.Errorf("of %v, %v, %v %+v is laid", at.s, at.k, at.mine, stands)
+		}
+	}
+	if n := len(mayBe()); n != 5*14*2 {
+		t.Errorf("%d rows were held against the function", n)
+	}
+}
+
+func TestLaidIsToldToAll(t *testing.T) { // P13.2: the same where several read first, at the same time
+	all := mayBe()
+	for round := range 60 {
+		forget()
+		wrong := make([]int, 8)
+		together(len(wrong), func(worker int) {
+			for i := range all {
+				at := all[(i+worker*len(all)/len(wrong)+round)%len(all)]
+				acts, next := Look(at.s, at.k, at.mine)
+				// Behind a read the chart is laid, and nobody writes it any more.
+				stands := laid[at.s][at.k][side(at.mine)]
+				if w := tell(at.s, at.k, at.mine); !stands.is(w) || !w.is(row{acts, next}) {
+					wrong[worker]++
+				}
+				scribble(acts)
+			}
+		})
+		if slices.Max(wrong) > 0 {
+			t.Fatalf("round %d: wrong rows of each reader: %v", round, wrong)
+		}
+	}
+}
+
+func TestLaidOnce(t *testing.T) { // P13.2: the chart is laid by the first read, and what is laid stays, to the memory that it stands in
+	forget()
+	if laid[Idle][req.FS][0].acts != nil {
+		t.Fatal("laid ahead of the first read")
+	}
+	Look(Idle, req.SF, false)
+	first := laid
+	for range 3 {
+		for _, at := range every() {
+			acts, _ := Look(at.s, at.k, at.mine)
+			scribble(acts)
+		}
+	}
+	for _, at := range mayBe() {
+		was, is := first[at.s][at.k][side(at.mine)], laid[at.s][at.k][side(at.mine)]
+		if !is.is(tell(at.s, at.k, at.mine)) || len(is.acts) > 0 && &is.acts[0] != &was.acts[0] {
+			t.Errorf("of %v, %v, %v %+v is laid, it was %+v", at.s, at.k, at.mine, is, was)
+		}
+	}
+}
+
+func TestToldHolds(t *testing.T) { // P13.1, R5: an answer hangs on what is asked alone, not on what is kept
+	defer forget()
+	want := read(t)
+	for _, spoilt := range []row{{}, {nil, Forced}, {[]Act{TakeFS}, Idle}, {[]Act{TakeSF, StopWaits}, Idle}, {[]Act{-1, 99}, 77}} {
+		forget()
+		Look(Idle, req.SF, false)
+		for _, at := range mayBe() {
+			laid[at.s][at.k][side(at.mine)] = spoilt
+		}
+		for _, at := range every() {
+			check(t, want, at)
+		}
+		for _, at := range mayBe() {
+			if stands := laid[at.s][at.k][side(at.mine)]; !stands.is(spoilt) {
+				t.Fatalf("a read wrote %+v into the chart", stands)
+			}
 		}
 	}
 }

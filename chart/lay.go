@@ -1,6 +1,7 @@
 package chart
 
 import (
+	"slices"
 	"sync"
 
 	"carousel/req"
@@ -15,86 +16,65 @@ type row struct {
 // rows are the chart: a row of each state, request and side.
 type rows [stateCount][req.None][sides]row
 
-// laid is the chart, once laying is done; nobody writes it but laying.
+// laid is the chart as tell tells it, once laying is done; nobody writes it but laying.
 var (
 	laying sync.Once
 	laid   rows
 )
 
-// Lists that a line has.
-type (
-	states []State
-	kinds  []req.Kind
-	acts   []Act
-)
-
-// line is a row as the document lists it, of several states, requests and sides.
-type line struct {
-	from  states
-	asked kinds
-	mine  []bool
-	does  acts
-	next  State
-}
-
-// lines are the chart as the document lists it: no two have a state, request and side in common.
-func lines() []line {
-	all := states{Idle, Protect, Manual, Forced, Pending}
-	unforced := states{Idle, Protect, Manual, Pending}
-	calm := states{Idle, Pending}
-	switched := states{Manual, Forced}
-	either, own, other := []bool{false, true}, []bool{true}, []bool{false}
-	return []line{
-		{all, kinds{req.FS}, either, acts{TakeFS, StopWaits}, Forced},
-		{unforced, kinds{req.RemoteFS}, either, acts{OpenAll, Silence, StopWaits}, Forced},
-		{unforced, kinds{req.SF}, either, acts{TakeSF, StopWaits}, Protect},
-		{states{Protect}, kinds{req.ClearSF}, either, acts{Guard, SayNone, Rest}, Pending},
-		{unforced, kinds{req.RemoteSF}, either, acts{OpenSound, Silence, StopWaits}, Protect},
-		{calm, kinds{req.RemoteMS}, either, acts{OpenSound, Silence, StopWaits}, Manual},
-		{states{Manual}, kinds{req.RemoteMS}, own, acts{Guard, SayNone, BlockWait}, Pending},
-		{states{Manual}, kinds{req.RemoteMS}, other, acts{OpenSound, Silence}, Manual},
-		{calm, kinds{req.MS}, either, acts{TakeMS, StopWaits}, Manual},
-		{switched, kinds{req.Clear}, own, acts{Guard, SayNone, BlockWait}, Pending},
-		{states{Pending}, kinds{req.Clear, req.RestOver, req.BlockOver}, either, acts{Home, StopWaits}, Idle},
-		{all, kinds{req.RemoteIdle}, other, acts{HomeFar}, Idle},
-		{calm, kinds{req.RemoteNone}, either, acts{Yield}, asItWas},
-		{states{Protect}, kinds{req.RemoteNone}, either, acts{Rest}, Pending},
-		{switched, kinds{req.RemoteNone}, other, acts{BlockWait}, Pending},
+// tell is the chart's row of a state and a request that may be, its cases in the order in which the document lists them.
+func tell(s State, k req.Kind, mine bool) row {
+	unforced := s != Forced
+	calm := s == Idle || s == Pending
+	switched := s == Manual || s == Forced
+	switch {
+	case k == req.FS:
+		return row{[]Act{TakeFS, StopWaits}, Forced}
+	case unforced && k == req.RemoteFS:
+		return row{[]Act{OpenAll, Silence, StopWaits}, Forced}
+	case unforced && k == req.SF:
+		return row{[]Act{TakeSF, StopWaits}, Protect}
+	case s == Protect && k == req.ClearSF:
+		return row{[]Act{Guard, SayNone, Rest}, Pending}
+	case unforced && k == req.RemoteSF:
+		return row{[]Act{OpenSound, Silence, StopWaits}, Protect}
+	case calm && k == req.RemoteMS:
+		return row{[]Act{OpenSound, Silence, StopWaits}, Manual}
+	case s == Manual && k == req.RemoteMS && mine:
+		return row{[]Act{Guard, SayNone, BlockWait}, Pending}
+	case s == Manual && k == req.RemoteMS && !mine:
+		return row{[]Act{OpenSound, Silence}, Manual}
+	case calm && k == req.MS:
+		return row{[]Act{TakeMS, StopWaits}, Manual}
+	case switched && k == req.Clear && mine:
+		return row{[]Act{Guard, SayNone, BlockWait}, Pending}
+	case s == Pending && (k == req.Clear || k == req.RestOver || k == req.BlockOver):
+		return row{[]Act{Home, StopWaits}, Idle}
+	case k == req.RemoteIdle && !mine:
+		return row{[]Act{HomeFar}, Idle}
+	case calm && k == req.RemoteNone:
+		return row{[]Act{Yield}, s}
+	case s == Protect && k == req.RemoteNone:
+		return row{[]Act{Rest}, Pending}
+	case switched && k == req.RemoteNone && !mine:
+		return row{[]Act{BlockWait}, Pending}
 	}
+	return row{nil, s}
 }
 
 // lay is the chart by state, request and side.
 func lay() rows {
-	out := still()
-	for _, l := range lines() {
-		for _, s := range l.from {
-			for _, k := range l.asked {
-				for _, mine := range l.mine {
-					out[s][k][side(mine)] = l.of(s)
-				}
-			}
-		}
-	}
-	return out
-}
-
-// still is a chart by which nothing is done, and each state stays.
-func still() rows {
 	var out rows
 	for s := range stateCount {
 		for k := range req.None {
-			for at := range sides {
-				out[s][k][at].next = s
-			}
+			out[s][k][side(false)] = tell(s, k, false)
+			out[s][k][side(true)] = tell(s, k, true)
 		}
 	}
 	return out
 }
 
-// of is a line's row of one of its states.
-func (l line) of(s State) row {
-	if l.next == asItWas {
-		return row{acts: l.does, next: s}
-	}
-	return row{acts: l.does, next: l.next}
+// is says whether two rows tell the same.
+func (r row) is(other row) bool {
+	return r.next == other.next && slices.Equal(r.acts, other.acts)
 }
